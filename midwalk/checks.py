@@ -1,11 +1,14 @@
 """Checks of arguments that several modules share."""
 
-from midwalk.errors import InvalidMarked, InvalidNumber, InvalidPasses, InvalidRow, InvalidValues
+from midwalk.errors import (InvalidBrings, InvalidMarked, InvalidNumber, InvalidPasses, InvalidPlace, InvalidRow,
+                            InvalidValue, InvalidValues)
 
 MOST_VALUES = 120
 MOST_MARKED = 12
 MOST_IN_ROW = 8
 MOST_PASSES = 8
+MOST_KEYS = 12
+MOST_BROUGHT = 12
 
 
 def is_whole(thing):
@@ -31,13 +34,21 @@ def first_wrong_mark(marked):
     return None
 
 
+def first_not_whole(things):
+    """The number of the first thing that is not a whole number, or None."""
+    for index, thing in enumerate(things):
+        if not is_whole(thing):
+            return index
+    return None
+
+
 def check_values(values):
     """Raise InvalidValues unless these are at most 120 whole numbers."""
     if not is_list_up_to(values, MOST_VALUES):
         raise InvalidValues(None)
-    for index, value in enumerate(values):
-        if not is_whole(value):
-            raise InvalidValues(index)
+    wrong = first_not_whole(values)
+    if wrong is not None:
+        raise InvalidValues(wrong)
 
 
 def check_marked(marked):
@@ -68,3 +79,24 @@ def check_number(number, most):
     """Raise InvalidNumber unless this is a whole number from 0 to `most`."""
     if not is_whole_up_to(number, most):
         raise InvalidNumber(number)
+
+
+def check_brings(brings):
+    """Raise InvalidBrings unless this is a dict of at most 12 lists of at most 12 whole numbers."""
+    if not isinstance(brings, dict) or len(brings) > MOST_KEYS:
+        raise InvalidBrings(None)
+    for key, brought in brings.items():
+        if not is_whole(key) or not is_list_up_to(brought, MOST_BROUGHT) or first_not_whole(brought) is not None:
+            raise InvalidBrings(key)
+
+
+def check_place(place):
+    """Raise InvalidPlace unless this is a whole number from 0 on."""
+    if not is_whole(place) or place < 0:
+        raise InvalidPlace(place)
+
+
+def check_value(value):
+    """Raise InvalidValue unless this is a whole number."""
+    if not is_whole(value):
+        raise InvalidValue(value)

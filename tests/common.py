@@ -94,6 +94,11 @@ def not_lists():
     return [None, True, 0, 1.5, "", "12", b"12", (), (1, 2), {}, {1: 1}, {1}, range(3), iter([1]), Odd(), list]
 
 
+def not_dicts():
+    """Things that are no dicts."""
+    return [None, True, 0, 1.5, "", "1: 2", b"1:", [], [(1, [2])], (), ((1, [2]),), {1}, range(3), Odd(), dict]
+
+
 def wrong_values():
     """Wrong lists of values, with the field that tells of each."""
     cases = [(thing, None) for thing in not_lists()]
@@ -123,6 +128,26 @@ def wrong_rows():
     cases += [([[1], [], marked, "x"], 2) for marked, _ in wrong_marked()]
     cases += [([[1]] * 7 + [[1, 1]], 7)]
     return cases
+
+
+def wrong_brings():
+    """Wrong dicts of what values bring, with the field that tells of each."""
+    cases = [(thing, None) for thing in not_dicts()]
+    cases += [({number: [] for number in range(13)}, None), ({str(number): "x" for number in range(13)}, None)]
+    hashable = [thing for thing in not_whole() if not isinstance(thing, (list, dict, set))]
+    cases += [({thing: []}, thing) for thing in hashable]
+    cases += [({9: [], 4: [9], thing: [], "y": 3, 2: None}, thing) for thing in hashable]
+    for thing in not_lists() + [[1] * 13, ["x"] * 13, [1] * 11 + [None], [1] * 12 + [None]]:
+        cases += [({4: thing}, 4), ({9: [], -TWENTY: [9], 0: thing, 5: thing, "y": 3}, 0)]
+    for thing in not_whole():
+        cases += [({4: [thing]}, 4), ({9: [], TWENTY: [1, 2, thing], 0: "x"}, TWENTY)]
+    cases += [({**{number: [1] for number in range(11)}, 11: [True]}, 11)]
+    return cases
+
+
+def not_places():
+    """Things that are no whole numbers from 0 on."""
+    return not_whole() + [-1, -7, -TWENTY]
 
 
 def wrong_up_to(most):

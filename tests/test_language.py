@@ -23,8 +23,12 @@ BUILTINS = set("""
 METHODS = set("""
     append clear copy count endswith extend find get index insert isalnum isalpha isdigit islower isspace isupper items
     join keys ljust lower lstrip partition pop remove replace reverse rfind rjust rpartition rsplit rstrip setdefault
-    split splitlines startswith strip update upper values zfill bit_length add discard sort __init__
+    split splitlines startswith strip update upper values zfill bit_length add discard sort __init__ title capitalize swapcase casefold center expandtabs
+    removeprefix removesuffix rindex isascii isdecimal isnumeric istitle isidentifier isprintable
 """.split())
+CHANGING = set("append clear extend insert pop remove reverse setdefault update add discard sort".split())
+# Methods and attributes of builtin values: no property is called so, and of the attributes only some may be.
+TAKEN = {name for kind in (str, int, list, dict, set, bytes) for name in dir(kind)}
 BARRED = set("""
     register mro elements open input law version_info with_traceback add_note typing enum Enum Flag Protocol namedtuple
     dataclass overload contextmanager getattr setattr hasattr vars globals locals eval exec
@@ -123,6 +127,57 @@ class LanguageTest(unittest.TestCase):
             for node in ast.walk(tree):
                 if isinstance(node, ast.Name) and node.id in PYTHON:
                     self.assertIn(node.id, BUILTINS, (name, node.lineno))
+
+    def test_classes(self):
+        for name, tree in trees():
+            for made in [node for node in ast.walk(tree) if isinstance(node, ast.ClassDef)]:
+                self.assertIn(made, tree.body)
+                self.assertEqual(made.decorator_list, [])
+                self.assertIsNotNone(ast.get_docstring(made), (name, made.name))
+                rest = made.body[1:]
+                self.assertTrue(all(isinstance(node, ast.FunctionDef) for node in rest), (name, made.name))
+                methods = [node.name for node in rest]
+                self.assertEqual(len(set(methods)), len(methods))
+                stored = {node.attr for node in ast.walk(made)
+                          if isinstance(node, ast.Attribute) and isinstance(node.ctx, ast.Store)}
+                self.assertFalse(stored & set(methods))
+                self.assertLessEqual(stored & TAKEN, {"count", "index"})
+
+    def test_properties(self):
+        for name, tree in trees():
+            for node in functions(tree):
+                for over in node.decorator_list:
+                    self.assertEqual(ast.unparse(over), "property")
+                    self.assertNotIn(node.name, TAKEN)
+                    self.assertEqual([argument.arg for argument in node.args.args], ["self"])
+                    # A docstring, and what is told of one attribute.
+                    self.assertEqual(len(node.body), 2, (name, node.name))
+                    self.assertRegex(ast.unparse(node.body[1]), r"\Areturn (self\.\w+|list\(self\.\w+\))\Z")
+
+    def test_loops_leave_what_they_go_over(self):
+        for name, tree in trees():
+            for loop in [node for node in ast.walk(tree) if isinstance(node, ast.For)]:
+                over = {ast.unparse(node) for node in ast.walk(loop.iter) if isinstance(node, (ast.Name, ast.Attribute))}
+                for node in [inner for row in loop.body for inner in ast.walk(row)]:
+                    changed = None
+                    if isinstance(node, ast.Subscript) and not isinstance(node.ctx, ast.Load):
+                        changed = ast.unparse(node.value)
+                    elif isinstance(node, ast.Call) and isinstance(node.func, ast.Attribute):
+                        changed = ast.unparse(node.func.value) if node.func.attr in CHANGING else None
+                    self.assertNotIn(changed, over, (name, loop.lineno))
+
+    def test_sets_are_asked_at_once(self):
+        for name, tree in trees():
+            near = set()
+            for node in ast.walk(tree):
+                if isinstance(node, ast.Call) and ast.unparse(node.func) in ("sorted", "len"):
+                    near.update(id(argument) for argument in node.args)
+                if isinstance(node, ast.Compare):
+                    near.update(id(part) for part in node.comparators)
+            for node in ast.walk(tree):
+                called = isinstance(node, ast.Call) and ast.unparse(node.func) in ("set", "frozenset")
+                if called or isinstance(node, (ast.Set, ast.SetComp)):
+                    self.assertIn(id(node), near, (name, node.lineno))
 
     def test_methods(self):
         own = {node.name for _, tree in trees() for node in functions(tree)}
